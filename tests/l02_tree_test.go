@@ -138,9 +138,35 @@ func TestHeadsInParentheses(t *testing.T) {
 		wantShown(t, program(ask(tree(impl.NMember, "x", s.node))), "("+head+".x);")
 		wantShown(t, program(ask(tree(impl.NIndex, "", s.node, s.node))), "("+head+"["+s.text+"]);")
 		wantShown(t, program(ask(tree(impl.NCall, "", s.node, s.node, s.node))), "("+head+"("+s.text+", "+s.text+"));")
-		wantShown(t, program(ask(tree(impl.NNew, "", s.node, s.node))), "((new "+head+"("+s.text+")));")
+		if s.node.Kind != impl.NCall {
+			wantShown(t, program(ask(tree(impl.NNew, "", s.node, s.node))), "((new "+head+"("+s.text+")));")
+		}
 		wantShown(t, program(ask(tree(impl.NUnary, "!", s.node))), "((! "+s.text+"));")
 		wantShown(t, program(ask(tree(impl.NBinary, "+", s.node, s.node))), "(("+s.text+" + "+s.text+"));")
+	}
+}
+
+// What is called behind new would be read as what is made: such a tree is not
+// shown, since it could not be read of it.
+func TestHeadsOfNewWithCalls(t *testing.T) {
+	for _, head := range []impl.Node{
+		call(a), call(a, one), call(call(a)), member(call(a), "b"), index(call(a), one), member(index(member(call(a), "b"), one), "c"),
+		call(member(a, "b")), member(call(made(a)), "b"), call(function(nil)), index(call(index(a, b)), call(c)),
+	} {
+		wantShown(t, program(ask(made(head))), "")
+		wantShown(t, program(ask(made(head, one))), "")
+		wantShown(t, program(ask(call(a, made(head)))), "")
+	}
+	for _, s := range []sample{
+		{index(a, call(b)), `a[b()]`},
+		{member(made(a), "b"), `(new a()).b`},
+		{binary("+", call(a), call(b)), `(a() + b())`},
+		{tree(impl.NUnary, "!", call(a)), `(! a())`},
+		{member(binary("||", call(a), b), "c"), `(a() || b).c`},
+		{function(nil, ask(call(a))), `(function () {(a());})`},
+		{named(impl.NObject, "", []string{"a"}, call(a)), `(({"a": a()}))`},
+	} {
+		wantShown(t, program(ask(made(s.node, call(a)))), "((new "+s.text+"(a())));")
 	}
 }
 

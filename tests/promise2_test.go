@@ -29,7 +29,7 @@ func (w *writer) head(deep int, calls bool) sample {
 		return sample{nameNode(text), text}
 	}
 	s := w.expression(deep - 1)
-	for !calls && s.node.Kind >= impl.NMember && s.node.Kind <= impl.NCall {
+	for !calls && headCalls(s.node) {
 		s = w.expression(deep - 1)
 	}
 	switch s.node.Kind {
@@ -37,6 +37,14 @@ func (w *writer) head(deep int, calls bool) sample {
 		s.text = "(" + s.text + ")"
 	}
 	return s
+}
+
+// headCalls tells of what can't be the head of new as it is shown.
+func headCalls(n impl.Node) bool {
+	for n.Kind == impl.NMember || n.Kind == impl.NIndex {
+		n = n.Kids[0]
+	}
+	return n.Kind == impl.NCall
 }
 
 func (w *writer) leaf() sample {
@@ -305,6 +313,7 @@ func TestProgramsAreShown(t *testing.T) {
 			wantShown(t, s.node, "")
 		case impl.Tokens(s.text).Code == impl.OK:
 			wantShown(t, s.node, s.text)
+			wantRead(t, s.text, s.node)
 			right++
 		}
 		if t.Failed() {
@@ -314,4 +323,45 @@ func TestProgramsAreShown(t *testing.T) {
 	if right < 1500 {
 		t.Errorf("only %d programs are shown", right)
 	}
+}
+
+func TestProgramsAreReadOfWhatIsShown(t *testing.T) {
+	kinds := map[int64]int{}
+	for _, text := range readable() {
+		first := impl.ScriptRead(text)
+		shown := impl.Show(first.Node)
+		if first.Code != impl.OK || shown == "" && len(first.Node.Kids) > 0 {
+			t.Errorf("%.300q is read as %+v and shown as %q", text, first, shown)
+		}
+		wantRead(t, shown, first.Node)
+		wantShown(t, impl.ScriptRead(shown).Node, shown)
+		countKinds(first.Node, kinds)
+	}
+	for kind := range kindHas {
+		if kinds[kind] < 10 {
+			t.Errorf("only %d Nodes of the kind %d", kinds[kind], kind)
+		}
+	}
+}
+
+func countKinds(n impl.Node, kinds map[int64]int) {
+	kinds[n.Kind]++
+	for _, kid := range n.Kids {
+		countKinds(kid, kinds)
+	}
+}
+
+// readable has programs as they may be written, which can be shown, too.
+func readable() []string {
+	var out []string
+	for _, s := range expressionTexts() {
+		if !strings.HasPrefix(s.text, "new (a()") && len(s.text) < 1000 {
+			out = append(out, "("+s.text+")", "var a = "+s.text, "function f() { return "+s.text+" }")
+		}
+	}
+	for _, s := range append(statementTexts(), functionTexts()...) {
+		out = append(out, s.text, "function f(a) {"+s.text+"}", "throw function () {"+s.text+s.text+"}")
+	}
+	return append(out, "\"use strict\"; function f(a) { return function () { return this } }",
+		"function f() {\"use strict\"; while (a) { break } }", "\"use strict\"\n\"use strict\"", "")
 }
