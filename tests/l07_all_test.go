@@ -129,13 +129,13 @@ func wantApart(t *testing.T, what string, texts ...string) {
 }
 
 func TestRunsShareNothing(t *testing.T) {
-	texts := []string{"var s = \"first text\"; print(s); print(s); s", "print(s); throw s", "print(s + \"\"); s + \"\""}
+	texts := []string{"var s = \"first text\"; print(s); print(s); s", "print(s); throw s", "print(s + \"\"); s + \"\"", "s", "s", "throw s", "throw s"}
 	whole := slices.Clone(texts)
-	for i := range whole {
-		whole[i] = strings.Clone(whole[i])
+	for i := range texts {
+		texts[i] = strings.Clone(texts[i])
 	}
 	list := impl.RunAll(texts, 99)
-	if len(list) != 3 || endOf(list[0]) != "first text first text = 'first text'" || endOf(list[1]) != "first text ! 'first text'" || endOf(list[2]) != "first text = 'first text'" {
+	if len(list) != 7 || endOf(list[0]) != "first text first text = 'first text'" || endOf(list[1]) != "first text ! 'first text'" || endOf(list[2]) != "first text = 'first text'" {
 		t.Fatalf("got %+v", list)
 	}
 	told := slices.Clone(texts)
