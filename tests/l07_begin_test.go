@@ -50,7 +50,7 @@ func TestHowAFunctionBegins(t *testing.T) {
 		{"function f(a) { return a } f(1, 2, 3)", "= 1"}, {"function f(a) { var a; return a } f(1)", "= 1"}, {"function f(a) { return a; var a = 2 } f(1)", "= 1"}, {"function f() { return k; for (var k in 1) ; } f()", "= undefined"},
 		{"var k = 5; function f() { for (k in {a: 1}) ; } f(); k", "= 'a'"}, {"var k = 5; function f() { for (var k in {a: 1}) ; } f(); k", "= 5"}, {"function f() { var a = 1 } f(); typeof a", "= 'undefined'"},
 		// Of like parameters the last counts.
-		{"function f(a, a) { return a } f(1, 2)", "= 2"}, {"function f(a, b, a) { return a } f(1, 2, 3)", "= 3"}, {"function f(a, b, a) { return b } f(1, 2, 3)", "= 2"}, {"function f(a, a) { return a } f(1)", "= 1"}, {"function f(a, b, a) { return a } f(1, 2)", "= 1"},
+		{"function f(a, a) { return a } f(1, 2)", "= 2"}, {"function f(a, b, a) { return a } f(1, 2, 3)", "= 3"}, {"function f(a, b, a) { return b } f(1, 2, 3)", "= 2"}, {"function f(a, a) { return a } f(1)", "= undefined"}, {"function f(a, b, a) { return a } f(1, 2)", "= undefined"}, {"function f(a, b, a) { return b } f(1, 2)", "= 2"},
 		// arguments is an object, unless it is a parameter.
 		{"function f() { return arguments.length } f()", "= 0"}, {"function f(a) { return arguments.length } f(1, 2, 3)", "= 3"}, {"function f(a, b) { return arguments.length } f(1)", "= 1"}, {"function f(a) { return arguments[1] } f(1, 2)", "= 2"},
 		{"function f(arguments) { return arguments } f(7)", "= 7"}, {"function f(a, arguments) { return arguments } f(7)", "= undefined"}, {"function f(a, arguments) { return arguments } f(7, 8)", "= 8"},
